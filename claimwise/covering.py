@@ -1,6 +1,16 @@
 """Covering: how a reading is found in a thing, and which of several readings covers it first."""
 
-from claimwise.kinds import is_under
+from claimwise.kinds import is_under, uppers_of
+
+
+# What a search for findings holds its parts against: what the reading asks for and what the thing has.
+class Search:
+    def __init__(self, reading, thing, closed):
+        self.joins = reading[2]
+        self.steps = reading[4]
+        self.joined = dict([(join, True) for join in thing[1]])
+        self.done = thing[2]
+        self.closed = closed
 
 
 def covers(kinds, readings, thing):
@@ -12,35 +22,56 @@ def covers(kinds, readings, thing):
 
 
 def finding_in(kinds, reading, thing):
-    closed = [(numbers, parts_under(kinds, thing, told)) for told, numbers in reading[1]]
+    if len(reading[0]) > len(thing[0]):
+        return None
+    uppers = [uppers_of(kinds, kind) for kind, sizes in thing[0]]
+    closed = [(numbers, parts_under(uppers, told)) for told, numbers in reading[1]]
     # More parts than numbers to find them for: no search is needed to tell that one is left over.
     if any([len(shut) > len(numbers) for numbers, shut in closed]):
         return None
-    choices = [choices_for(kinds, reading, thing, closed, i) for i in range(len(reading[0]))]
-    return first_finding(reading, thing, closed, choices, [])
+    choices = choices_of(reading, thing, uppers, closed)
+    if [] in choices:
+        return None
+    return first_finding(Search(reading, thing, closed), choices)
 
 
-def parts_under(kinds, thing, uppers):
-    return [part for part, told in enumerate(thing[0]) if is_under_one(kinds, told[0], uppers)]
+def parts_under(uppers, told):
+    return [part for part, above in enumerate(uppers) if any([kind in told for kind in above])]
 
 
-def is_under_one(kinds, kind, uppers):
-    return any([is_under(kinds, kind, upper) for upper in uppers])
+# For each part of the reading the parts of the thing that may be found for it, as far as this part alone can tell.
+def choices_of(reading, thing, uppers, closed):
+    marks = marks_of(reading[2], reading[4])
+    told = marks_of(thing[1], thing[2])
+    choices = []
+    for i, kinds in enumerate(reading[0]):
+        fitting = open_for(closed, parts_under(uppers, kinds), i)
+        bounds = [(word, lo, hi) for number, word, lo, hi in reading[3] if number == i]
+        wanted = [(mark, word) for mark, word, number in marks if number == i]
+        choices.append([part for part in fitting if has_sizes(thing, part, bounds) and has_marks(told, part, wanted)])
+    return choices
 
 
-# The parts of the thing that may be found for part i, as far as this part alone can tell.
-def choices_for(kinds, reading, thing, closed, i):
-    bounds = [(word, lo, hi) for number, word, lo, hi in reading[3] if number == i]
-    barred = []
+# At which parts joins begin, joins end and steps are done.
+def marks_of(joins, steps):
+    marks = {}
+    for word, i, j in joins:
+        marks[("from", word, i)] = True
+        marks[("to", word, j)] = True
+    for word, i in steps:
+        marks[("then", word, i)] = True
+    return marks
+
+
+def open_for(closed, parts, i):
     for numbers, shut in closed:
         if i not in numbers:
-            barred.extend(shut)
-    fitting = parts_under(kinds, thing, reading[0][i])
-    return [part for part in fitting if part not in barred and has_sizes(thing[0][part][1], bounds)]
+            parts = [part for part in parts if part not in shut]
+    return parts
 
 
-def has_sizes(sizes, bounds):
-    numbers = dict(sizes)
+def has_sizes(thing, part, bounds):
+    numbers = dict(thing[0][part][1])
     for word, lo, hi in bounds:
         number = numbers.get(word)
         if number is None or (lo is not None and number < lo) or (hi is not None and number > hi):
@@ -48,16 +79,49 @@ def has_sizes(sizes, bounds):
     return True
 
 
-# Parts are tried from the lowest number on, so the first one found whole is the first of all findings.
-def first_finding(reading, thing, closed, choices, found):
-    if len(found) == len(choices):
-        return found if all_shut_found(closed, found) else None
-    for part in choices[len(found)]:
-        more = found + [part]
-        if part not in found and joins_hold(reading[2], thing[1], more) and steps_hold(reading[4], thing[2], more):
-            finding = first_finding(reading, thing, closed, choices, more)
-            if finding is not None:
-                return finding
+def has_marks(told, part, wanted):
+    return all([(mark, word, part) in told for mark, word in wanted])
+
+
+# From some finding to the first one: part by part, a lower choice is taken wherever a finding goes on from it.
+def first_finding(search, choices):
+    finding = some_finding(search, choices)
+    if finding is None:
+        return None
+    for i in range(len(choices)):
+        ahead = finding[:i]
+        for part in [part for part in choices[i] if part < finding[i] and part not in ahead]:
+            lower = some_finding(search, [[found] for found in ahead] + [[part]] + choices[i + 1:])
+            if lower is not None:
+                finding = lower
+                break
+    return finding
+
+
+# The parts with one choice and those that many joins and steps bind come first: where these fail, the others need not
+# be tried.
+def some_finding(search, choices):
+    weights = [0 for choice in choices]
+    for word, i, j in search.joins:
+        weights[i] += 1
+        weights[j] += 1
+    for word, i in search.steps:
+        weights[i] += 1
+    order = sorted(range(len(choices)), key=lambda i: (min(len(choices[i]), 2), -weights[i]))
+    return finding_from(search, choices, order, [None for choice in choices])
+
+
+def finding_from(search, choices, order, found):
+    if order == []:
+        return found if all_shut_found(search.closed, found) else None
+    for part in choices[order[0]]:
+        if part not in found:
+            more = list(found)
+            more[order[0]] = part
+            if joins_hold(search, more) and steps_hold(search, more):
+                finding = finding_from(search, choices, order[1:], more)
+                if finding is not None:
+                    return finding
     return None
 
 
@@ -70,21 +134,33 @@ def all_shut_found(closed, found):
 
 
 # Asked of the parts found so far: joins and steps of the others can't be told yet.
-def joins_hold(joins, told, found):
-    count = len(found)
-    for word, i, j in joins:
-        if i < count and j < count and (word, found[i], found[j]) not in told:
+def joins_hold(search, found):
+    for word, i, j in search.joins:
+        if found[i] is not None and found[j] is not None and (word, found[i], found[j]) not in search.joined:
             return False
     return True
 
 
-def steps_hold(steps, told, found):
+def steps_hold(search, found):
+    done = search.done
     place = 0
-    for word, i in steps:
-        if i < len(found):
-            while place < len(told) and told[place] != (word, found[i]):
+    for word, i in search.steps:
+        if found[i] is not None:
+            while place < len(done) and done[place] != (word, found[i]):
                 place += 1
-            if place == len(told):
+            if place == len(done):
                 return False
             place += 1
     return True
+
+
+# Whether the closed pairs leave room for a part of this kind that is found for this number, or for none of theirs.
+def leaves_room(kinds, reading, number, kind):
+    for told, numbers in reading[1]:
+        if number not in numbers and is_under_one(kinds, kind, told):
+            return False
+    return True
+
+
+def is_under_one(kinds, kind, uppers):
+    return any([is_under(kinds, kind, upper) for upper in uppers])

@@ -38,14 +38,17 @@ def is_kind_row(words):
 
 
 def is_under(kinds, one, other):
+    return other in uppers_of(kinds, one)
+
+
+# All that a kind is under, itself first.
+def uppers_of(kinds, kind):
     uppers = dict(kinds)
-    at = one
-    while at != "":
-        if at == other:
-            return True
-        # A word that is no kind has nothing above it: it is under itself alone.
-        at = uppers.get(at, "")
-    return False
+    above = [kind]
+    # A word that is no kind has nothing above it: it is under itself alone.
+    while uppers.get(above[-1], "") != "":
+        above.append(uppers[above[-1]])
+    return above
 
 
 def lower_of(kinds, one, other):

@@ -5,84 +5,10 @@ import unittest
 
 from claimwise.covering import covers, finding_in
 from claimwise.ground import readings_of
-from claimwise.things import read_thing
 from claimwise.tongue import read_claims
-from helper import KINDS, THIRTY, Checks
+from helper import EMPTY, KINDS, THIRTY, Checks, first_of_all, made_reading, reading_in, thing_in, under
 
 BIG = int(THIRTY)
-EMPTY = ([], [], [])
-UPPERS = dict(KINDS)
-
-
-def thing_in(*rows):
-    return read_thing(KINDS, "\n".join(rows))
-
-
-def reading_in(*rows):
-    return readings_of(KINDS, read_claims("\n".join(("claim",) + rows)), 1)[0]
-
-
-def under(one, other):
-    while one:
-        if one == other:
-            return True
-        one = UPPERS[one]
-    return False
-
-
-def under_one(kind, others):
-    return any(under(kind, other) for other in others)
-
-
-# The promises one by one, asked of a list of parts that is whole.
-def is_finding(reading, thing, found):
-    parts, closed, joins, sizes, steps = reading
-    for kinds, place in zip(parts, found):
-        if not under_one(thing[0][place][0], kinds):
-            return False
-    for i, word, lo, hi in sizes:
-        numbers = [number for told, number in thing[0][found[i]][1] if told == word]
-        if not any((lo is None or lo <= number) and (hi is None or number <= hi) for number in numbers):
-            return False
-    if any((word, found[i], found[j]) not in thing[1] for word, i, j in joins):
-        return False
-    wanted = tuple((word, found[i]) for word, i in steps)
-    if wanted not in itertools.combinations(thing[2], len(wanted)):
-        return False
-    for kinds, numbers in closed:
-        for place, told in enumerate(thing[0]):
-            if under_one(told[0], kinds) and place not in [found[number] for number in numbers]:
-                return False
-    return True
-
-
-# Permutations of rising numbers come in the order of lists.
-def first_of_all(reading, thing):
-    for found in itertools.permutations(range(len(thing[0])), len(reading[0])):
-        if is_finding(reading, thing, found):
-            return list(found)
-    return None
-
-
-def made_reading(source):
-    kinds = [word for word, upper in KINDS[:5]]
-    count = source.randint(0, 4)
-    parts = [tuple(source.sample(kinds, source.choice((1, 1, 2)))) for _ in range(count)]
-    closed = []
-    if count and source.random() < 0.4:
-        numbers = tuple(sorted(source.sample(range(count), source.randint(1, count))))
-        inner = tuple(source.sample(kinds, source.randint(1, 2)))
-        if all(all(under_one(kind, inner) for kind in parts[number]) for number in numbers):
-            closed.append((inner, numbers))
-    pairs = list(itertools.permutations(range(count), 2))
-    joins = sorted({("clip",) + source.choice(pairs) for _ in range(source.randint(0, 2))}) if pairs else []
-    sizes = []
-    for i in range(count):
-        if source.random() < 0.3:
-            lo = source.choice((None, 0, 1))
-            sizes.append((i, "long", lo, source.choice((2, 3)) if lo is None else source.choice((None, 1, 2))))
-    steps = [(source.choice(["weld", "bend"]), source.randrange(count)) for _ in range(source.randint(0, 3))] if count else []
-    return (parts, closed, joins, sizes, steps)
 
 
 def made_thing(source):
