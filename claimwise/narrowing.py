@@ -1,6 +1,6 @@
 """Narrowing: whether each thing that one claim covers is covered by another, or a thing that shows that it is not."""
 
-from claimwise.covering import covers, finding_in, is_under_one, leaves_room
+from claimwise.covering import Ready, covers, finding_ready, is_under_one, leaves_room
 from claimwise.kinds import is_under
 from claimwise.leasts import least_things
 
@@ -50,9 +50,10 @@ def with_kinds(thing, told):
 
 # Of the readings that cover the thing, the one that leaves the fewest ways; None where no reading covers it.
 def ways_past_one(kinds, reading, other, told, thing):
+    ready = Ready(kinds, thing)
     fewest = None
     for closing in other:
-        if finding_in(kinds, closing, thing) is not None:
+        if finding_ready(closing, ready) is not None:
             ways = ways_past(kinds, reading, closing, told)
             if ways == []:
                 return []

@@ -17,7 +17,10 @@ def read_claims(text):
         if words == []:
             continue
         if words[0] == "claim":
-            claims.append((takes_in(words, row, len(claims)), []))
+            takes = takes_in(words, row, len(claims))
+            if len(claims) >= MOST_CLAIMS:
+                raise TooBig(0, row)
+            claims.append((takes, []))
         elif claims == []:
             raise BadRow(row)
         else:
@@ -33,8 +36,6 @@ def takes_in(words, row, above):
     for number in takes:
         if not 1 <= number <= above:
             raise NoClaim(row)
-    if above >= MOST_CLAIMS:
-        raise TooBig(0, row)
     return takes
 
 

@@ -132,6 +132,18 @@ def made_reading(source):
     return (parts, closed, joins, sizes, steps)
 
 
+def made_thing(source):
+    kinds = [word for word, upper in KINDS[:5]]
+    count = source.randint(0, 6)
+    parts = []
+    for _ in range(count):
+        parts.append((source.choice(kinds), [("long", source.randint(-1, 3))] if source.random() < 0.8 else []))
+    pairs = list(itertools.permutations(range(count), 2))
+    joins = sorted(("clip",) + pair for pair in source.sample(pairs, len(pairs) * 2 // 3))
+    steps = [(source.choice(["weld", "bend"]), source.randrange(count)) for _ in range(8)] if count else []
+    return (parts, joins, steps)
+
+
 def reading_covering(readings, thing):
     """The number and finding of the first reading that covers, or None."""
     for number, reading in enumerate(readings):

@@ -6,21 +6,9 @@ import unittest
 from claimwise.covering import covers, finding_in
 from claimwise.ground import readings_of
 from claimwise.tongue import read_claims
-from helper import EMPTY, KINDS, THIRTY, Checks, first_of_all, made_reading, reading_in, thing_in, under
+from helper import EMPTY, KINDS, THIRTY, Checks, first_of_all, made_reading, made_thing, reading_in, thing_in, under
 
 BIG = int(THIRTY)
-
-
-def made_thing(source):
-    kinds = [word for word, upper in KINDS[:5]]
-    count = source.randint(0, 6)
-    parts = []
-    for _ in range(count):
-        parts.append((source.choice(kinds), [("long", source.randint(-1, 3))] if source.random() < 0.8 else []))
-    pairs = list(itertools.permutations(range(count), 2))
-    joins = sorted(("clip",) + pair for pair in source.sample(pairs, len(pairs) * 2 // 3))
-    steps = [(source.choice(["weld", "bend"]), source.randrange(count)) for _ in range(8)] if count else []
-    return (parts, joins, steps)
 
 
 class FindingTest(Checks, unittest.TestCase):

@@ -21,11 +21,11 @@ def rod(*sizes):
     return ([("rod", list(sizes))], [], [])
 
 
-# Parts with so many kinds each, and so many sizes from 0 to 9 of the words a, b, c ..
+# Parts with so many kinds each, and so many sizes from 0 to 9 of the words b, c, d ..
 def with_choices(kind_counts, size_count):
     kinds = [word for word, upper in KINDS]
     parts = [tuple(kinds[:count]) for count in kind_counts]
-    return (parts, [], [], [(0, "abcdefgh"[number], 0, 9) for number in range(size_count)], [])
+    return (parts, [], [], [(0, "bcdefghi"[number], 0, 9) for number in range(size_count)], [])
 
 
 def cut_at(word, *numbers):
@@ -209,14 +209,14 @@ class TooManyTest(Checks, unittest.TestCase):
 
     def test_just_two_hundred(self):
         two = with_choices((2, 2, 2), 2)
-        other = cut_at("a", 1, 2, 3, 4) + cut_at("b", 5, 6, 7, 8)
+        other = cut_at("b", 1, 2, 3, 4) + cut_at("c", 5, 6, 7, 8)
         self.count([two], other, 200)
         self.refused(TooMany, {}, least_things, KINDS, [two, NOTHING], other)
         self.refused(TooMany, {}, least_things, KINDS, [NOTHING, two], other)
 
     def test_added_over_the_readings(self):
         half = with_choices((2, 2), 2)
-        other = cut_at("a", 1, 2, 3, 4) + cut_at("b", 5, 6, 7, 8)
+        other = cut_at("b", 1, 2, 3, 4) + cut_at("c", 5, 6, 7, 8)
         self.count([half, half], other, 200)
         self.refused(TooMany, {}, least_things, KINDS, [half, NOTHING, half], other)
 
@@ -225,25 +225,25 @@ class TooManyTest(Checks, unittest.TestCase):
         self.refused(TooMany, {}, least_things, KINDS, [with_choices((3, 3, 3, 3, 3), 0)], [NOTHING])
 
     def test_by_numbers_alone(self):
-        other = cut_at("a", *range(1, 10)) + cut_at("b", *range(1, 10)) + cut_at("c", 1)
+        other = cut_at("b", *range(1, 10)) + cut_at("c", *range(1, 10)) + cut_at("d", 1)
         self.count([with_choices((1,), 3)], other, 200)
-        self.refused(TooMany, {}, least_things, KINDS, [with_choices((1,), 3)], other + cut_at("c", 2))
+        self.refused(TooMany, {}, least_things, KINDS, [with_choices((1,), 3)], other + cut_at("d", 2))
 
     def test_those_left_out_count(self):
         shut = [(("rod", "bar", "tube"), (0,))]
         parts = [("rod",)] + [("rod", "bar", "cap"), ("bar", "tube", "plate"), ("tube", "rod", "disc")]
-        sizes = [(0, "a", 0, 9), (1, "b", 0, 9)]
+        sizes = [(0, "b", 0, 9), (1, "c", 0, 9)]
         reading = (parts, shut, [], sizes, [])
-        self.count([reading], cut_at("a", 1) + cut_at("b", 1, 2), 6)
-        self.refused(TooMany, {}, least_things, KINDS, [reading], cut_at("a", 1) + cut_at("b", 1, 2, 3))
+        self.count([reading], cut_at("b", 1) + cut_at("c", 1, 2), 6)
+        self.refused(TooMany, {}, least_things, KINDS, [reading], cut_at("b", 1) + cut_at("c", 1, 2, 3))
         nothing = ([("rod",), ("bar",), ("rod", "bar", "cap"), ("rod", "bar", "cap"), ("rod", "bar", "cap")], shut, [], sizes, [])
-        self.count([nothing], cut_at("a", 1) + cut_at("b", 1, 2), 0)
-        self.refused(TooMany, {}, least_things, KINDS, [nothing], cut_at("a", 1) + cut_at("b", 1, 2, 3))
+        self.count([nothing], cut_at("b", 1) + cut_at("c", 1, 2), 0)
+        self.refused(TooMany, {}, least_things, KINDS, [nothing], cut_at("b", 1) + cut_at("c", 1, 2, 3))
 
     def test_far_too_many(self):
         reading = with_choices((3, 3, 3, 3, 3), 8)
         other = []
-        for word in "abcdefgh":
+        for word in "bcdefghi":
             other += cut_at(word, *range(1, 10))
         self.refused(TooMany, {}, least_things, KINDS, [reading], other)
 
@@ -252,10 +252,10 @@ class TooManyTest(Checks, unittest.TestCase):
         reading = with_choices((3, 3, 3, 3, 3), 8)
         reading[3].append((0, "z", 5, 4))
         other = []
-        for word in "abcdefgh":
+        for word in "bcdefghi":
             other += cut_at(word, *range(1, 10))
         self.count([reading], other, 0)
-        self.count([reading, with_choices((2, 2, 2), 2)], cut_at("a", 1, 2, 3, 4) + cut_at("b", 1, 2, 3, 4), 200)
+        self.count([reading, with_choices((2, 2, 2), 2)], cut_at("b", 1, 2, 3, 4) + cut_at("c", 1, 2, 3, 4), 200)
 
 
 if __name__ == "__main__":

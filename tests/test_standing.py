@@ -256,9 +256,9 @@ class StandingTest(Asking, unittest.TestCase):
 
     # How many least things there are hangs on the cuts of the others.
     def test_too_many_by_the_others_cuts(self):
-        sizes = [(0, word, 0, 99) for word in "abc"]
+        sizes = [(0, word, 0, 99) for word in "bcd"]
         one = [([("rod",)], [], [], sizes, [])]
-        cuts = [([("rod",)], [], [], [(0, word, number, None)], []) for word in "abc" for number in range(1, 6)]
+        cuts = [([("rod",)], [], [], [(0, word, number, None)], []) for word in "bcd" for number in range(1, 6)]
         self.refused(TooMany, {}, standing, KINDS, one, cuts)
         self.refused(TooMany, {}, standing, KINDS, cuts, one)
         self.tells(one, cuts[:4] + cuts[5:9] + cuts[10:14], "across")
